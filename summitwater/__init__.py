@@ -1,0 +1,1 @@
+"""Summitwater: steady trade over a hill, and keepers' rules."""

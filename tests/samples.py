@@ -1,0 +1,75 @@
+"""Canals and things that several tests ask about."""
+
+import random
+
+END = ("end",)
+CHAMBER = ("chamber",)
+DRY_POUND = ("pound", 1, 0, 1, None)
+SPRING_POUND = ("pound", 9, 9, 4, 99)
+FREE_SPRING = ("pound", 5, 2, 3, 0)
+
+# A hill: up to a summit pound with a spring, and down again.
+HILL = (
+    (END, CHAMBER, ("pound", 3, 1, 2, 7), CHAMBER, END),
+    ("up", "up", "down", "down"),
+)
+# The shortest canal.
+STEP = ((END, CHAMBER, END), ("up", "up"))
+# A stair of chambers.
+STAIR = ((END, CHAMBER, CHAMBER, CHAMBER, END), ("up", "up", "up", "up"))
+# Down into a valley and up again, with two pounds.
+VALLEY = (
+    (END, CHAMBER, ("pound", 2, 2, 1, None), CHAMBER, ("pound", 9, 0, 4, 0), CHAMBER, END),
+    ("down", "down", "up", "up", "up", "down"),
+)
+# As many places as there can be, by turns chambers and pounds.
+LONG = (
+    (END,) + (CHAMBER, SPRING_POUND, CHAMBER, DRY_POUND) * 2 + (CHAMBER, FREE_SPRING, CHAMBER, END),
+    ("up", "down") * 6,
+)
+CANALS = [HILL, STEP, STAIR, VALLEY, LONG]
+
+# Things of every kind that are neither a canal nor a stand of one.
+THINGS = [
+    None, True, False, 0, 1, -1, 3, 10 ** 59, -(10 ** 59), "", "end", "end up chamber up end", "x" * 4000,
+    (), [], ((), ()), ((), (), ()), [(), ()], (None, None), (None, None, None), ("", ""), ("", "", ""),
+    (1, 2), (1, 2, 3), (True, False), ((True,), (False,)), ("abc", "ab"), ((((((((((),),),),),),),),),),
+    [[[[[[[[[[]]]]]]]]]], (["end"], ["up"]), [0] * 300, (0,) * 300, ("end", "chamber", "end"),
+    tuple(["up"] * 1000), ("places", "gates"), ((END,) * 3, ("up",) * 2),
+]
+
+
+def random_pound(source):
+    brim = source.randint(1, 9)
+    price = source.choice([None, 0, 1, 99, source.randint(0, 99)])
+    return ("pound", brim, source.randint(0, brim), source.randint(1, 4), price)
+
+
+def random_canal(source):
+    many = source.randint(3, 13)
+    places = [END, CHAMBER]
+    while len(places) < many - 1:
+        # The place ahead of the last end is a chamber.
+        if places[-1] == CHAMBER and len(places) < many - 2 and source.random() < 0.6:
+            places.append(random_pound(source))
+        else:
+            places.append(CHAMBER)
+    places.append(END)
+    gates = tuple(source.choice(["up", "down"]) for place in places[1:])
+    return (tuple(places), gates)
+
+
+def random_canals(seed, many):
+    source = random.Random(seed)
+    return [random_canal(source) for number in range(many)]
+
+
+def kinds_of(thing):
+    """The thing with the class of each part of it: 1 and True differ here, and so do lists and tuples."""
+    if isinstance(thing, (tuple, list)):
+        return (type(thing).__name__, [kinds_of(part) for part in thing])
+    return (type(thing).__name__, thing)
+
+
+def replaced(row, at, part):
+    return row[:at] + (part,) + row[at + 1:]
