@@ -27,7 +27,13 @@ LONG = (
     (END,) + (CHAMBER, SPRING_POUND, CHAMBER, DRY_POUND) * 2 + (CHAMBER, FREE_SPRING, CHAMBER, END),
     ("up", "down") * 6,
 )
-CANALS = [HILL, STEP, STAIR, VALLEY, LONG]
+# As many places as there can be, up to a spring amid and down again: its water never comes to a stand.
+RIDGE = (
+    (END, CHAMBER, ("pound", 4, 1, 3, None), CHAMBER, CHAMBER, CHAMBER, ("pound", 9, 2, 4, 12))
+    + (CHAMBER, CHAMBER, CHAMBER, ("pound", 6, 0, 2, 31), CHAMBER, END),
+    ("up",) * 6 + ("down",) * 6,
+)
+CANALS = [HILL, STEP, STAIR, VALLEY, LONG, RIDGE]
 
 # Things of every kind that are neither a canal nor a stand of one.
 THINGS = [
@@ -73,3 +79,29 @@ def kinds_of(thing):
 
 def replaced(row, at, part):
     return row[:at] + (part,) + row[at + 1:]
+
+
+def random_stand(source, canal, crowd=8):
+    """A stand of a canal; up to a crowd of barges of each word wait at each end."""
+    places = canal[0]
+    levels, rights, lefts = [], [], []
+    for place in places:
+        most = {"end": 0, "chamber": 1}.get(place[0], place[1] if len(place) == 5 else 0)
+        levels.append(source.choice([0, most, source.randint(0, most)]))
+        room = {"end": source.randint(0, crowd), "chamber": 1}.get(place[0], place[3] if len(place) == 5 else 0)
+        barges = source.choice([0, room, source.randint(0, room)])
+        rights.append(source.choice([0, barges, source.randint(0, barges)]))
+        lefts.append(barges - rights[-1])
+    if sum(rights) + sum(lefts) > 60:
+        return random_stand(source, canal, crowd)
+    return (tuple(levels), tuple(rights), tuple(lefts))
+
+
+def random_stands(seed, many):
+    """Pairs of a canal and a stand."""
+    source = random.Random(seed)
+    pairs = []
+    for number in range(many):
+        canal = CANALS[number] if number < len(CANALS) else random_canal(source)
+        pairs.append((canal, random_stand(source, canal)))
+    return pairs
