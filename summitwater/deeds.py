@@ -2,8 +2,11 @@
 
 from summitwater.canals import higher, lower
 from summitwater.errors import Dry, Full, NoBarge, NoGate, NoRoom, NoSpring, Shallow, SummitError, Uneven
+from summitwater.kinds import is_tuple, is_whole
 from summitwater.places import CHAMBER, END, has_spring, holds, is_dry, is_full, is_shallow
 from summitwater.stands import barges_of, with_barges, with_more
+
+WORDS = ("let", "feed", "right", "left")
 
 
 def deed_done(canal, stand, deed):
@@ -22,7 +25,22 @@ def deed_done(canal, stand, deed):
 
 def deeds_at(canal, stand):
     """List the deeds that can be done at a stand."""
-    return [deed for deed in deeds_of(canal) if can_be_done(canal, stand, deed)]
+    return [deed for deed, behind, price, gain in steps_by(canal, stand, deed_done)]
+
+
+def steps_by(canal, stand, done):
+    """List the deeds that can be done at a stand, each with the stand behind it, its price and its gain.
+
+    Done does a deed: deed_done, or one like it.
+    """
+    steps = []
+    for deed in deeds_of(canal):
+        try:
+            behind, price, gain = done(canal, stand, deed)
+        except SummitError:
+            continue
+        steps.append((deed, behind, price, gain))
+    return steps
 
 
 def deeds_of(canal):
@@ -35,13 +53,9 @@ def deeds_of(canal):
     return lets + feeds + rights + lefts
 
 
-def can_be_done(canal, stand, deed):
-    """Tell whether a deed is done at a stand, not refused."""
-    try:
-        deed_done(canal, stand, deed)
-    except SummitError:
-        return False
-    return True
+def is_deed(thing):
+    """Tell whether a thing is a deed, of whatever number."""
+    return is_tuple(thing, 2) and thing[0] in WORDS and is_whole(thing[1])
 
 
 def turned_deed(canal, deed):

@@ -1,29 +1,36 @@
 """Rows of deeds, done one by one, and their water."""
 
 from summitwater.canals import higher, lower
-from summitwater.deeds import deed_done
+from summitwater.deeds import deed_done, is_deed
 from summitwater.errors import Falls, SummitError
 from summitwater.places import END
+
+MOST_DEEDS = 6000
+
+
+def is_row(thing):
+    """Tell whether a thing is a row of deeds, whether they can be done or not."""
+    return isinstance(thing, list) and len(thing) <= MOST_DEEDS and all([is_deed(deed) for deed in thing])
 
 
 def row_done(canal, stand, deeds):
     """Do a row of deeds: tell the stand behind it, its price and its gain; refused with Falls."""
+    return row_by(canal, stand, deeds, deed_done)
+
+
+def row_by(canal, stand, deeds, done):
+    """Do a row of deeds as row_done does, each one by done: deed_done, or one like it."""
     behind = stand
     price = 0
     gain = 0
     for at, deed in enumerate(deeds):
-        behind, paid, gained = step_done(canal, behind, deed, at)
+        try:
+            behind, paid, gained = done(canal, behind, deed)
+        except SummitError:
+            raise Falls(at) from None
         price += paid
         gain += gained
     return (behind, price, gain)
-
-
-def step_done(canal, stand, deed, at):
-    """Do the deed of a row that has this number."""
-    try:
-        return deed_done(canal, stand, deed)
-    except SummitError:
-        raise Falls(at) from None
 
 
 def water(canal, stand, deeds):

@@ -141,3 +141,144 @@ def any_done(source, plain, deeds):
             continue
         return deed
     return None
+
+
+class OpenPlain(Plain):
+    """An open stand: as many barges as one likes wait at their ends, and who comes to an end is taken off."""
+
+    def move(self, word, gate):
+        last = len(self.gates)
+        self.barges += [["right", 0], ["right", 0], ["left", last], ["left", last]]
+        try:
+            return Plain.move(self, word, gate)
+        finally:
+            self.barges = [barge for barge in self.barges if barge[1] not in (0, last)]
+
+
+def open_answer(canal, stand, deed):
+    """As answer, of an open stand."""
+    plain = OpenPlain(canal, stand)
+    try:
+        plain.do(deed)
+    except Refused as refused:
+        return str(refused)
+    return (plain.stand(), plain.price, plain.gain)
+
+
+def steps(canal, stand, ask=answer):
+    """Each deed that can be done at a stand, with the tuple to which it leads."""
+    numbers = range(len(canal[0]))
+    deeds = [(word, number) for word in ("let", "feed", "right", "left") for number in numbers]
+    told = [(deed, ask(canal, stand, deed)) for deed in deeds]
+    return [(deed, led) for deed, led in told if isinstance(led, tuple)]
+
+
+def search(canal, stand, most, ask=answer):
+    """Each stand met with its steps, by a plain search; None where there are more than so many."""
+    found = {}
+    waiting = [stand]
+    while waiting:
+        one = waiting.pop()
+        if one not in found:
+            found[one] = steps(canal, one, ask)
+            waiting.extend(led[0] for deed, led in found[one])
+        if len(found) > most:
+            return None
+    return found
+
+
+def is_number(thing):
+    return type(thing) is int
+
+
+def is_plain_stand(canal, thing):
+    """Whether a thing is a stand, told by its own words."""
+    places = canal[0]
+    if type(thing) is not tuple or len(thing) != 3:
+        return False
+    for row in thing:
+        if type(row) is not tuple or len(row) != len(places):
+            return False
+        if not all(is_number(part) and part >= 0 for part in row):
+            return False
+    levels, rights, lefts = thing
+    for at, place in enumerate(places):
+        if place == ("end",) and levels[at] != 0:
+            return False
+        if place == ("chamber",) and (levels[at] > 1 or rights[at] + lefts[at] > 1):
+            return False
+        if place[0] == "pound" and (levels[at] > place[1] or rights[at] + lefts[at] > place[3]):
+            return False
+    return sum(rights + lefts) <= 60
+
+
+def all_through(stand):
+    return not any(stand[1][:-1]) and not any(stand[2][1:])
+
+
+def is_plain_never(canal, stand, thing):
+    """Whether a thing shows that a stand never comes through."""
+    if type(thing) is not list or not all(is_plain_stand(canal, one) for one in thing):
+        return False
+    if len(set(thing)) != len(thing) or stand not in thing:
+        return False
+    if any(all_through(one) for one in thing):
+        return False
+    there = set(thing)
+    return all(led[0] in there for one in thing for deed, led in steps(canal, one))
+
+
+def barges(stand):
+    """Each word and place with such barges."""
+    return [
+        (word, place)
+        for word, row in (("right", stand[1]), ("left", stand[2]))
+        for place, many in enumerate(row)
+        if many
+    ]
+
+
+def less(stand, word, place):
+    rows = [list(row) for row in stand]
+    rows[1 if word == "right" else 2][place] -= 1
+    return tuple(tuple(row) for row in rows)
+
+
+def is_plain_row(thing):
+    if type(thing) is not list or len(thing) > 6000:
+        return False
+    for deed in thing:
+        if type(deed) is not tuple or len(deed) != 2 or not is_number(deed[1]):
+            return False
+        if type(deed[0]) is not str or deed[0] not in ("let", "feed", "right", "left"):
+            return False
+    return True
+
+
+def brings_through(canal, stand, row):
+    plain = Plain(canal, stand)
+    try:
+        for deed in row:
+            plain.do(deed)
+    except Refused:
+        return False
+    return all_through(plain.stand())
+
+
+def is_plain_jam(canal, stand, thing):
+    """Whether a thing is a tuple that shows a least jam of a stand."""
+    if type(thing) is not tuple or len(thing) != 4 or thing[0] != "jam":
+        return False
+    kept, stands, rows = thing[1:]
+    if not is_plain_stand(canal, kept) or kept[0] != stand[0]:
+        return False
+    if any(few > many for few, many in zip(kept[1] + kept[2], stand[1] + stand[2])):
+        return False
+    if type(rows) is not list or len(rows) != len(barges(kept)):
+        return False
+    for pair, row in zip(barges(kept), rows):
+        if type(row) is not tuple or len(row) != 3 or not is_number(row[1]) or row[:2] != pair:
+            return False
+        if not is_plain_row(row[2]) or not brings_through(canal, less(kept, *pair), row[2]):
+            return False
+    return is_plain_never(canal, kept, stands)

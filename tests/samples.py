@@ -105,3 +105,49 @@ def random_stands(seed, many):
         canal = CANALS[number] if number < len(CANALS) else random_canal(source)
         pairs.append((canal, random_stand(source, canal)))
     return pairs
+
+
+def small_stands(seed, many, places=8, crowd=2):
+    """Pairs of a canal of at most so many places and a stand."""
+    source = random.Random(seed)
+    pairs = []
+    while len(pairs) < many:
+        canal = random_canal(source)
+        if len(canal[0]) <= places:
+            pairs.append((canal, random_stand(source, canal, crowd)))
+    return pairs
+
+
+def altered(source, thing):
+    """The thing with one change somewhere in it, perhaps of a kind only."""
+    if isinstance(thing, (tuple, list)) and thing and source.random() < 0.85:
+        at = source.randrange(len(thing))
+        parts = list(thing)
+        parts[at] = altered(source, parts[at])
+        return type(thing)(parts)
+    if isinstance(thing, (tuple, list)):
+        return altered_row(source, thing)
+    if isinstance(thing, int):
+        return source.choice([thing + 1, thing - 1, -thing, bool(thing), None, str(thing), (thing,), [thing], 10 ** 59])
+    return source.choice([None, True, 0, 1, "", "left", "right", "let", "feed", "jam", "free", [], (), [thing]])
+
+
+def altered_row(source, thing):
+    """A row of the other kind, or with a part left out, doubled, put in, exchanged."""
+    parts = list(thing)
+    at = source.randrange(len(parts) + 1)
+    other = source.randrange(len(parts) + 1)
+    change = source.randrange(6)
+    if change == 0:
+        return list(thing) if isinstance(thing, tuple) else tuple(thing)
+    if change == 1:
+        del parts[at:at + 1]
+    elif change == 2:
+        parts[other:other] = parts[at:at + 1]
+    elif change == 3:
+        parts.insert(at, source.choice(THINGS))
+    elif change == 4 and at < len(parts) and other < len(parts):
+        parts[at], parts[other] = parts[other], parts[at]
+    else:
+        return source.choice(THINGS)
+    return type(thing)(parts)
