@@ -1,4 +1,6 @@
-"""Deeds done by plain moving: a canal's water as a list, its barges one by one. It is what the program is held against."""
+"""Deeds done by plain moving: a canal's water as a list, its barges one by one; the program is held against it."""
+
+import functools
 
 
 class Refused(Exception):
@@ -103,9 +105,9 @@ def every_deed(canal):
     return [(word, number) for word in ("let", "feed", "right", "left") for number in numbers]
 
 
-def answer(canal, stand, deed):
+def answer(canal, stand, deed, kind=Plain):
     """The tuple to which a deed leads, or the name of the class that refuses it."""
-    plain = Plain(canal, stand)
+    plain = kind(canal, stand)
     try:
         plain.do(deed)
     except Refused as refused:
@@ -157,16 +159,12 @@ class OpenPlain(Plain):
 
 def open_answer(canal, stand, deed):
     """As answer, of an open stand."""
-    plain = OpenPlain(canal, stand)
-    try:
-        plain.do(deed)
-    except Refused as refused:
-        return str(refused)
-    return (plain.stand(), plain.price, plain.gain)
+    return answer(canal, stand, deed, OpenPlain)
 
 
+@functools.lru_cache(maxsize=30000)
 def steps(canal, stand, ask=answer):
-    """Each deed that can be done at a stand, with the tuple to which it leads."""
+    """Each deed that can be done at a stand, with the tuple to which it leads; nobody changes what is told."""
     numbers = range(len(canal[0]))
     deeds = [(word, number) for word in ("let", "feed", "right", "left") for number in numbers]
     told = [(deed, ask(canal, stand, deed)) for deed in deeds]
@@ -282,3 +280,56 @@ def is_plain_jam(canal, stand, thing):
         if not is_plain_row(row[2]) or not brings_through(canal, less(kept, *pair), row[2]):
             return False
     return is_plain_never(canal, kept, stands)
+
+
+def is_plain_open(canal, thing):
+    return is_plain_stand(canal, thing) and not any([thing[1][0], thing[1][-1], thing[2][0], thing[2][-1]])
+
+
+def plain_worths(canal, stand, thing):
+    """The number of each stand, where a thing is worths that the stand is one of, and stays among them; or None."""
+    if type(thing) is not list:
+        return None
+    for part in thing:
+        if type(part) is not tuple or len(part) != 2 or not is_plain_open(canal, part[0]) or not is_number(part[1]):
+            return None
+    numbers = dict(thing)
+    if len(numbers) != len(thing) or stand not in numbers:
+        return None
+    for one in numbers:
+        if any(led[0] not in numbers for deed, led in steps(canal, one, open_answer)):
+            return None
+    return numbers
+
+
+def is_plain_ring(canal, stand, price, gain, thing):
+    """Whether a thing is worths that bear out a price and a gain."""
+    numbers = plain_worths(canal, stand, thing)
+    return numbers is not None and all(
+        gain * paid + numbers[behind] >= price * gained + numbers[one]
+        for one in numbers
+        for deed, (behind, paid, gained) in steps(canal, one, open_answer)
+    )
+
+
+def is_plain_most(canal, stand, most, thing):
+    """Whether a thing is worths that bear out a most gain."""
+    numbers = plain_worths(canal, stand, thing)
+    return numbers is not None and numbers[stand] == most and min(numbers.values()) >= 0 and all(
+        numbers[behind] + gained <= numbers[one]
+        for one in numbers
+        for deed, (behind, paid, gained) in steps(canal, one, open_answer)
+    )
+
+
+def settled(found, weigh):
+    """The lowest sum of weights of rows from each stand, round by round; None where a ring has a sum below 0."""
+    numbers = {one: 0 for one in found}
+    for number in range(len(found) + 1):
+        before = dict(numbers)
+        for one in found:
+            for deed, (behind, paid, gained) in found[one]:
+                numbers[one] = min(numbers[one], numbers[behind] + weigh(paid, gained))
+        if numbers == before:
+            return numbers
+    return None

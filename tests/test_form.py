@@ -94,6 +94,30 @@ class CodeTest(unittest.TestCase):
             self.assertTrue((PACKAGE / (node.module.split(".")[1] + ".py")).is_file(), path)
             self.assertNotIn("*", [alias.name for alias in node.names], path)
 
+    def test_names_are_drawn_from_the_file_that_defines_them(self):
+        for path, node in nodes(ast.ImportFrom):
+            tree = ast.parse((PACKAGE / (node.module.split(".")[1] + ".py")).read_text())
+            own = {part.name for part in tree.body if isinstance(part, (ast.FunctionDef, ast.ClassDef))}
+            own |= {part.targets[0].id for part in tree.body if isinstance(part, ast.Assign)}
+            for alias in node.names:
+                self.assertIn(alias.name, own, (path, node.module))
+
+    def test_no_local_is_called_like_an_import_or_a_class(self):
+        for path, tree in trees():
+            drawn = {alias.name for node in ast.walk(tree) if isinstance(node, ast.ImportFrom) for alias in node.names}
+            drawn |= {node.name for node in ast.walk(tree) if isinstance(node, ast.ClassDef)}
+            for node in ast.walk(tree):
+                if isinstance(node, ast.Name) and isinstance(node.ctx, ast.Store):
+                    self.assertNotIn(node.id, drawn, (path, node.lineno))
+                elif isinstance(node, ast.arg):
+                    self.assertNotIn(node.arg, drawn, (path, node.lineno))
+
+    def test_each_import_is_used(self):
+        for path, tree in trees():
+            drawn = {alias.name for node in ast.walk(tree) if isinstance(node, ast.ImportFrom) for alias in node.names}
+            used = {node.id for node in ast.walk(tree) if isinstance(node, ast.Name)}
+            self.assertLessEqual(drawn, used, path)
+
     def test_no_two_files_draw_from_one_another(self):
         drawn = {path.stem: set() for path in files()}
         for path, node in nodes(ast.ImportFrom):

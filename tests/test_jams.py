@@ -55,9 +55,9 @@ def jams():
 
 class ShowsNeverTest(unittest.TestCase):
     def assert_shown(self, canal, stand, thing, asked):
-        before = copy.deepcopy(thing)
+        before = repr(thing)
         self.assertIs(shows_never(canal, stand, thing), asked, (canal, stand, thing))
-        self.assertEqual(kinds_of(thing), kinds_of(before))
+        self.assertEqual(repr(thing), before)
 
     def test_by_hand(self):
         levels = [(0, first, second, 0) for first in (0, 1) for second in (0, 1)]
@@ -273,9 +273,9 @@ class JamTest(unittest.TestCase):
 
 class ShowsJamTest(unittest.TestCase):
     def assert_shown(self, canal, stand, thing, asked):
-        before = copy.deepcopy(thing)
+        before = repr(thing)
         self.assertIs(shows_jam(canal, stand, thing), asked, (canal, stand, thing))
-        self.assertEqual(kinds_of(thing), kinds_of(before))
+        self.assertEqual(repr(thing), before)
 
     def test_what_is_told(self):
         for canal, stand, told in jams():
