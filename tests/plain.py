@@ -136,6 +136,11 @@ def any_done(source, plain, deeds):
     source.shuffle(deeds)
     if source.random() < 0.66:
         deeds.sort(key=lambda deed: deed[0] in ("let", "feed"))
+    return first_done(plain, deeds)
+
+
+def first_done(plain, deeds):
+    """Do the first of some deeds that can be done, and tell it."""
     for deed in deeds:
         try:
             plain.do(deed)
