@@ -5,7 +5,8 @@ from summitwater.errors import SummitError
 from summitwater.rules import ask_holds
 from summitwater.stands import is_stand, with_more
 
-# The comings with which a right barge comes to the first place, and those with which a left one comes to the last.
+COMINGS = (0, 1, 2, 3)
+# Those with which a right barge comes to the first place, and those with which a left one comes to the last.
 RIGHT_COMES = (1, 3)
 LEFT_COMES = (2, 3)
 

@@ -4,6 +4,10 @@ from summitwater.canals import DOWN, MOST_PLACES, UP
 from summitwater.errors import NoText
 from summitwater.places import CHAMBER, END, MOST_BRIM, MOST_PRICE, MOST_ROOM
 
+FIGURES = "0123456789"
+# No text that is read writes a number of more figures.
+MOST_FIGURES = 16
+
 
 def canal_text(canal):
     """Write a canal."""
@@ -101,7 +105,13 @@ def word_at(words, at):
 
 def number_of(word, least, most):
     """Tell the whole number from least to most that a word writes, or None."""
-    for number in range(least, most + 1):
-        if str(number) == word:
-            return number
-    return None
+    if not is_written(word) or not least <= int(word) <= most:
+        return None
+    return int(word)
+
+
+def is_written(word):
+    """Tell whether a word writes a whole number from 0 on, with no 0 ahead but in 0 itself."""
+    if not 1 <= len(word) <= MOST_FIGURES or not all([sign in FIGURES for sign in word]):
+        return False
+    return word == "0" or word[0] != "0"

@@ -153,3 +153,104 @@ def turned_rule(canal, rule):
 
 def turned_comings(comings):
     return type(comings)((0, 2, 1, 3)[coming] for coming in comings)
+
+
+def plain_pairs(canal, one, other, crowd, stand, most):
+    """Each pair met, by comings with the pair behind and what the one pays more; None beyond so many."""
+    found = {}
+    waiting = [(stand, stand)]
+    while waiting:
+        pair = waiting.pop()
+        if pair not in found:
+            found[pair] = plain_behind(canal, one, other, crowd, pair)
+            waiting.extend(behind for behind, dearer in found[pair])
+        if len(found) > most:
+            return None
+    return found
+
+
+def plain_behind(canal, one, other, crowd, pair):
+    told = []
+    for coming in range(4):
+        first = plain_hour(canal, one, crowd, pair[0], coming)
+        second = plain_hour(canal, other, crowd, pair[1], coming)
+        told.append(((first[0], second[0]), first[2] - second[2]))
+    return told
+
+
+def plain_shortest(found, first, most):
+    """How many hours the shortest list of comings has behind which the one has paid more; None beyond so many."""
+    dearest = {first: 0}
+    for hours in range(1, most + 1):
+        behind = {}
+        for pair, paid in dearest.items():
+            for other, dearer in found[pair]:
+                behind[other] = max(behind.get(other, paid + dearer), paid + dearer)
+        if max(behind.values()) > 0:
+            return hours
+        dearest = behind
+    return None
+
+
+def is_plain_no_more(canal, one, other, crowd, stand, thing):
+    """Whether a thing shows that the one never pays more, told by its own words."""
+    if type(thing) is not list:
+        return False
+    for part in thing:
+        if type(part) is not tuple or len(part) != 3 or not is_number(part[2]) or part[2] > 0:
+            return False
+        if not is_plain_house(canal, crowd, part[0]) or not is_plain_house(canal, crowd, part[1]):
+            return False
+    numbers = {part[:2]: part[2] for part in thing}
+    if len(numbers) != len(thing) or numbers.get((stand, stand), -1) < 0:
+        return False
+    return all(
+        behind in numbers and numbers[behind] >= number + dearer
+        for pair, number in numbers.items()
+        for behind, dearer in plain_behind(canal, one, other, crowd, pair)
+    )
+
+
+def paying_rule(source, canal):
+    """A rule that feeds, lets down and moves in any order."""
+    deeds = springs(canal) * 5 + canal_deeds(canal)
+    rows = []
+    for deed in source.sample(deeds, min(len(deeds), source.randint(5, 12))):
+        many = source.choice([0, 0, 1, 1, 2])
+        rows.append((tuple(random_ask(source, canal) for number in range(many)), deed))
+    return tuple(rows)
+
+
+def another_rule(source, canal, rule):
+    """A rule that is much like another one, or any other one."""
+    rows = list(rule)
+    at = source.randrange(len(rows) + 1)
+    change = source.randrange(9)
+    if change > 4:
+        return paying_rule(source, canal)
+    if change == 0:
+        return random_rule(source, canal)
+    if change == 1:
+        del rows[at:at + 1]
+    elif change == 2 and len(rows) < 12:
+        rows.insert(at, ((random_ask(source, canal),), source.choice(canal_deeds(canal))))
+    elif change == 3:
+        rows.append(rows.pop(source.randrange(len(rows))))
+    elif at < len(rows):
+        rows[at] = ((random_ask(source, canal),), rows[at][1])
+    return tuple(rows)
+
+
+def random_matches(seed, many, places=6):
+    """Tuples of a canal with a spring that costs, two rules, a crowd and a house's stand."""
+    source = random.Random(seed)
+    told = []
+    while len(told) < many:
+        canal = random_canal(source)
+        if len(canal[0]) <= places and any(canal[0][place][4] for word, place in springs(canal)):
+            crowd = source.randint(0, 4)
+            rules = [paying_rule(source, canal)]
+            rules.append(another_rule(source, canal, rules[0]))
+            source.shuffle(rules)
+            told.append((canal, rules[0], rules[1], crowd, random_house(source, canal, crowd)))
+    return told
